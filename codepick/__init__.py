@@ -1,0 +1,1 @@
+"""Codepick: the cheapest instructions for trees."""
