@@ -35,35 +35,58 @@ def way_prices(machine):
     return ways
 
 
-def price_made(machine, form, operator, rows):
-    """The least price at which instructions leave an operator over parts with these rows in form."""
-    amounts = []
-    for made, computed, arguments, price in machine[2]:
-        if made == form and computed == operator:
-            amounts.append(added([price] + [row[wanted] for row, wanted in zip(rows, arguments)]))
-    return cheapest(amounts)
+class Rules:
+    """What a machine tells of prices, sorted by operator: rows are found for very many nodes."""
+
+    def __init__(self, machine):
+        self.forms = machine[1]
+        self.makers = [[] for arity in machine[0]]
+        for form, operator, arguments, price in machine[2]:
+            self.makers[operator].append((form, arguments, price))
+        self.ways = []
+        for start, row in enumerate(way_prices(machine)):
+            self.ways.extend([(start, end, price) for end, price in enumerate(row) if price is not None])
 
 
-def row_of_node(machine, ways, operator, rows):
+def prices_made(rules, operator, rows):
+    """The least price at which instructions leave an operator over parts with these rows in each form."""
+    made = [None] * rules.forms
+    for form, arguments, price in rules.makers[operator]:
+        amount = price
+        for row, wanted in zip(rows, arguments):
+            if row[wanted] is None:
+                break
+            amount += row[wanted]
+        else:
+            if made[form] is None or amount < made[form]:
+                made[form] = amount
+    return made
+
+
+def row_of_node(rules, operator, rows):
     """The least price in each form of an operator over parts with these rows."""
-    forms = machine[1]
-    made = [price_made(machine, form, operator, rows) for form in range(forms)]
-    row = []
-    for end in range(forms):
-        row.append(cheapest([added([price, way[end]]) for price, way in zip(made, ways)]))
+    made = prices_made(rules, operator, rows)
+    row = [None] * rules.forms
+    for start, end, price in rules.ways:
+        if made[start] is not None and (row[end] is None or made[start] + price < row[end]):
+            row[end] = made[start] + price
     return tuple(row)
+
+
+def rows_of_nodes(machine, tree):
+    """The least prices of each written node: one row is enough, however often its part stands in the tree."""
+    rules = Rules(machine)
+    rows = []
+    for node in tree:
+        rows.append(row_of_node(rules, node[0], [rows[part] for part in node[1:]]))
+    return rows
 
 
 def prices(machine, tree):
     """The least price of a cover of the tree in each form, None where there is none."""
     need_machine(machine)
     need_tree(machine[0], tree)
-    ways = way_prices(machine)
-    # One row for each written node is enough, however often its part stands in the tree.
-    rows = []
-    for node in tree:
-        rows.append(row_of_node(machine, ways, node[0], [rows[part] for part in node[1:]]))
-    return rows[-1]
+    return rows_of_nodes(machine, tree)[-1]
 
 
 def is_row(thing):
@@ -75,9 +98,14 @@ def is_row(thing):
     )
 
 
+def state_and_base(row):
+    """What relative tells of a row of prices, without checking it."""
+    base = cheapest(row)
+    return tuple([None if price is None else price - base for price in row]), base
+
+
 def relative(row):
     """The state of a row, each price less the least one, and this least price."""
     if not is_row(row):
         raise NoPrices("no row of one to four prices")
-    base = cheapest(row)
-    return tuple([None if price is None else price - base for price in row]), base
+    return state_and_base(row)

@@ -78,6 +78,16 @@ def same(arities, one, other):
     return ends[0] == ends[1]
 
 
+def trimmed(tree):
+    """The tree with just those nodes written that its last one needs."""
+    needed = {len(tree) - 1: True}
+    for at in reversed(range(len(tree))):
+        if at in needed:
+            needed.update({part: True for part in tree[at][1:]})
+    places = {at: place for place, at in enumerate(sorted(needed))}
+    return tuple([(tree[at][0], *[places[part] for part in tree[at][1:]]) for at in sorted(needed)])
+
+
 def spelled(arities, tree):
     """The operators of a tree with at most 200 nodes, in prefix order."""
     amount = nodes(arities, tree)

@@ -71,7 +71,7 @@ def spoiled(value):
             found.append(replaced(value, place, wrong))
         if not isinstance(part, tuple):
             found.append(replaced(value, place, (part,)))
-            found.append(replaced(value, place, str(part)))
+            found.append(replaced(value, place, str(part) + "x" * isinstance(part, str)))
     return found
 
 
@@ -79,6 +79,8 @@ def likeness(part):
     """A value of another kind that Python holds for equal, or as good as equal."""
     if isinstance(part, tuple):
         return list(part)
+    if isinstance(part, str):
+        return [part]
     return {0: False, 1: True}.get(part, float(part or 0))
 
 
@@ -121,6 +123,70 @@ def some_machine(chance, instructions=8, conversions=5):
         start, end = chance.sample(range(forms), 2)
         steps.append((start, end, chance.choice((0, 1, 2, 7, 20))))
     return arities, forms, tuple(rows), tuple(steps)
+
+
+def machine_for(chance, arities, forms, instructions, conversions, most=4, apart=False):
+    """A machine with so many forms, instructions and conversions, with prices from 0 to most.
+
+    Each operator has an instruction as long as there are enough of them; if the forms are to be kept apart, each
+    has one in each form, and nothing but conversions leads from one form to another.
+    """
+    rows = []
+    for number in range(instructions):
+        operator = number // (forms if apart else 1)
+        operator = operator if operator < len(arities) else chance.randrange(len(arities))
+        form = number % forms if apart else chance.randrange(forms)
+        arguments = tuple([form if apart else chance.randrange(forms) for argument in range(arities[operator])])
+        rows.append((form, operator, arguments, chance.randint(0, most)))
+    chance.shuffle(rows)
+    steps = []
+    for number in range(conversions if forms > 1 else 0):
+        start, end = chance.sample(range(forms), 2)
+        steps.append((start, end, chance.randint(0, most)))
+    return arities, forms, tuple(rows), tuple(steps)
+
+
+def varied(chance, machine):
+    """Another machine for the same operators, with a few changes that may or may not tell on any tree."""
+    arities, forms, rows, steps = machine
+    rows, steps = list(rows), list(steps)
+    for change in range(chance.randint(0, 2)):
+        number = chance.randrange(len(rows))
+        row = rows[number]
+        change = chance.randrange(5)
+        if change == 0:
+            rows[number] = row[:3] + (chance.randint(0, 4),)
+        elif change == 1 and len(rows) > 1:
+            del rows[number]
+        elif change == 2:
+            rows.append(row[:3] + (row[3] + 1,))
+        elif change == 3 and steps:
+            del steps[chance.randrange(len(steps))]
+        elif change == 4 and steps:
+            step = steps[chance.randrange(len(steps))]
+            steps.append(step[:2] + (min(20, step[2] + chance.choice((-1, 0, 1)) % 20),))
+    chance.shuffle(rows)
+    chance.shuffle(steps)
+    return arities, forms, tuple(rows), tuple(steps)
+
+
+def counters(caps, moves, more=()):
+    """A machine that counts in each form but the goal up to its cap, as far as the price is above that of the goal.
+
+    Operator 0 is a leaf, all others have one argument: for a form in moves one that adds 1 there, for (form,) one
+    that leaves the argument's price in this form in all forms, for None one that does nothing. A cap None is none.
+    more has the arities of operators without an instruction.
+    """
+    forms = 1 + len(caps)
+    rows = [(form, 0, (), 0) for form in range(forms)]
+    for operator, move in enumerate(moves, start=1):
+        for form in range(forms):
+            if isinstance(move, tuple):
+                rows.append((form, operator, move, 0))
+            else:
+                rows.append((form, operator, (form,), int(form == move)))
+    steps = [(0, form, cap) for form, cap in enumerate(caps, start=1) if cap is not None]
+    return (0,) + (1,) * len(moves) + tuple(more), forms, tuple(rows), tuple(steps)
 
 
 def chance(seed):

@@ -13,6 +13,26 @@ INTERFACE = {
         "unspelled": ["arities", "operators"],
     },
     "codepick.prices": {"prices": ["machine", "tree"], "relative": ["row"]},
+    "codepick.covers": {
+        "first_cover": ["machine", "tree", "form=0"],
+        "spectrum": ["machine", "tree", "form=0"],
+        "is_cover": ["machine", "tree", "thing", "form=0"],
+        "price_of": ["machine", "tree", "cover", "form=0"],
+        "number_of": ["machine", "tree", "cover", "form=0"],
+        "cover_at": ["machine", "tree", "number", "form=0"],
+    },
+    "codepick.chooser": {
+        "step": ["machine", "operator", "arguments"],
+        "states": ["machine"],
+        "state_tree": ["machine", "state"],
+    },
+    "codepick.endless": {"finite": ["machine"], "shows_finite": ["machine", "thing"]},
+    "codepick.alike": {
+        "compared": ["one", "other"],
+        "shows_compared": ["one", "other", "thing"],
+        "gap": ["one", "other"],
+        "shows_gap": ["one", "other", "thing"],
+    },
 }
 
 
@@ -25,10 +45,9 @@ class Interface(unittest.TestCase):
                     self.assertTrue(inspect.isfunction(function))
                     self.assertEqual(function.__module__, module)
                     parameters = inspect.signature(function).parameters.values()
-                    self.assertEqual([parameter.name for parameter in parameters], arguments)
+                    self.assertEqual([str(parameter) for parameter in parameters], arguments)
                     for parameter in parameters:
                         self.assertIs(parameter.kind, inspect.Parameter.POSITIONAL_OR_KEYWORD)
-                        self.assertIs(parameter.default, inspect.Parameter.empty)
 
 
 if __name__ == "__main__":
