@@ -18,7 +18,7 @@ def is_state(forms, thing):
     if not isinstance(thing, tuple) or len(thing) != forms:
         return False
     known = [price for price in thing if price is not None]
-    return all([is_integer(price) and price >= 0 for price in known]) and min(known, default=0) == 0
+    return all([is_integer(price) for price in known]) and min(known, default=0) == 0
 
 
 def step(machine, operator, arguments):

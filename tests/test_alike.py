@@ -175,6 +175,16 @@ class Compared(unittest.TestCase):
         # Without the sibling there is no such context, and then it does not matter.
         self.both(((0, 0, 1, 2), 3, rows[1:], ()), ((0, 0, 1, 2), 3, other[2][1:], ()), "alike")
 
+    def test_a_long_context(self):
+        """Operator 2 costs more in form 3, from which operator 1 leads to the goal through all other forms."""
+        rows = ((3, 0, (), 0), (2, 1, (3,), 1), (1, 1, (2,), 1), (0, 1, (1,), 1))
+        one = ((0, 1, 1), 4, rows + ((3, 2, (3,), 1),), ())
+        other = ((0, 1, 1), 4, rows + ((3, 2, (3,), 2),), ())
+        answer = self.check(one, other, "unlike")
+        self.assertGreaterEqual(len(answer[1]), 5)
+        self.both(one, other, "unlike")
+        self.both(one, one[:2] + (one[2][::-1],) + one[3:], "alike")
+
     def test_pairs_that_do_not_matter(self):
         """Differences may be any at pairs from which no context leads to a goal price."""
         one = ((0, 0, 1), 2, ((0, 0, (), 1), (1, 1, (), 1), (1, 2, (1,), 2)), ())
@@ -197,7 +207,8 @@ class Compared(unittest.TestCase):
         words = []
         for one, other in some_pairs(260):
             answer = compared(one, other)
-            found = {kind((here[0], there[0])) for rows in rows_by_size(one[0], (one, other), 8) for here, there in rows}
+            by_size = rows_by_size(one[0], (one, other), 8)
+            found = {kind((here[0], there[0])) for rows in by_size for here, there in rows}
             words.append(answer[0])
             self.check(one, other, answer[0])
             if answer == ALIKE:

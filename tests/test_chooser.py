@@ -171,8 +171,11 @@ class States(unittest.TestCase):
 
     def test_the_order(self):
         """None is as if greater than all integers."""
-        rows = ((0, 2, (), 9), (1, 2, (), 0), (1, 3, (), 0), (0, 1, (), 0), (1, 1, (), 12), (0, 4, (), 0), (0, 0, (), 0))
-        machine = ((0,) * 6, 2, rows + ((1, 0, (), 2),), ())
+        rows = (
+            (0, 2, (), 9), (1, 2, (), 0), (1, 3, (), 0), (0, 1, (), 0), (1, 1, (), 12), (0, 4, (), 0), (0, 0, (), 0),
+            (1, 0, (), 2),
+        )
+        machine = ((0,) * 6, 2, rows, ())
         self.assertEqual(states(machine), ((0, 2), (0, 12), (0, None), (9, 0), (None, 0), (None, None)))
         self.assertEqual(asked_twice(self, states, LEAVES), ((0, 0, 0), (0, None, 1), (None, 0, None), (None,) * 3))
 

@@ -110,7 +110,8 @@ class AgainstAllCovers(unittest.TestCase):
         """Every tuple of pairs of an instruction and a way is tried."""
         for machine, tree in ((RINGS, LEAF), (RINGS, chain(1, 2)), (NEAR, NEAR_TREE[:2])):
             first = len(machine[2])
-            ways = [way for many in range(4) for way in itertools.permutations(range(first, first + len(machine[3])), many)]
+            numbers = range(first, first + len(machine[3]))
+            ways = [way for many in range(4) for way in itertools.permutations(numbers, many)]
             pairs = list(itertools.product(range(first), ways))
             if len(tree) > 1:
                 pairs = [pair for pair in pairs if len(pair[1]) < 2]

@@ -144,6 +144,15 @@ class Gap(unittest.TestCase):
             shows_gap(one[:2] + (rows + up,) + one[3:], other[:2] + (other[2] + up,) + other[3:], thing), True
         )
 
+    def test_a_long_context(self):
+        """Operator 2 costs more in form 3, from which operator 1 leads to the goal through all other forms."""
+        rows = ((3, 0, (), 0), (2, 1, (3,), 1), (1, 1, (2,), 1), (0, 1, (1,), 1))
+        one = ((0, 1, 1), 4, rows + ((3, 2, (3,), 1),), ())
+        other = ((0, 1, 1), 4, rows + ((3, 2, (3,), 2),), ())
+        self.both(one, other, (0, None))
+        self.assertIs(shows_gap(one, other, (((0,), (2, 0)), (0,))), True)
+        self.both(one, other[:2] + (rows[:1] + ((2, 1, (3,), 5),) + rows[2:] + ((3, 2, (3,), 1),),) + other[3:], (4, 4))
+
     def test_ends_that_high_trees_alone_have(self):
         """The prices are counted up to 20 in form 1, and read by operator 2."""
         one = counters((0,), (1, (1,)))
@@ -357,7 +366,7 @@ class ShowsGap(unittest.TestCase):
         thing = (chain(1, 3), (0, 0))
         self.assertIs(shows_gap(*SLOPE, thing), True)
         for wrong in wrong_values() + spoiled(thing) + [
-            None, 0, (), thing[:1], thing + ((),), thing + (0,), list(thing), thing[::-1], (thing,), {thing[0]: thing[1]},
+            None, 0, (), thing[:1], thing + ((),), thing + (0,), list(thing), thing[::-1], (thing,), dict([thing]),
             (chain(1, 3), [0, 0]), (list(chain(1, 3)), (0, 0)), (chain(1, 3), 0), (chain(1, 3), None),
             (chain(1, 3), "00"), (chain(1, 3), {0: 0}), (None, (0,)), ((), (0,)), ((), ()), (NEAR_TREE, (0,)),
             (chain(1, 3), (0, 0, 0)), (chain(1, 3), deep(tuple, 20)), (deep(tuple, 20), (0,)),
