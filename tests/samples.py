@@ -159,12 +159,12 @@ def varied(chance, machine):
         elif change == 1 and len(rows) > 1:
             del rows[number]
         elif change == 2:
-            rows.append(row[:3] + (row[3] + 1,))
+            rows.append(row[:3] + (min(20, row[3] + 1),))
         elif change == 3 and steps:
             del steps[chance.randrange(len(steps))]
         elif change == 4 and steps:
             step = steps[chance.randrange(len(steps))]
-            steps.append(step[:2] + (min(20, step[2] + chance.choice((-1, 0, 1)) % 20),))
+            steps.append(step[:2] + (max(0, min(20, step[2] + chance.choice((-1, 0, 1)))),))
     chance.shuffle(rows)
     chance.shuffle(steps)
     return arities, forms, tuple(rows), tuple(steps)
