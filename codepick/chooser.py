@@ -71,6 +71,15 @@ def told_states(machine):
     raise TooMany(MOST_STATES + 1, MOST_STATES)
 
 
+def few_states(machine, most):
+    """The closure of the states, where they can be told and are at most so many."""
+    closure = told_states(machine)
+    amount = len(closure.found)
+    if amount > most:
+        raise TooMany(amount, most)
+    return closure
+
+
 def state_order(state):
     """What states are ordered by: None is as if greater than all integers."""
     return tuple([(price is None, 0 if price is None else price) for price in state])

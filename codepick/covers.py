@@ -11,15 +11,20 @@ from codepick.trees import need_tree, nodes
 MOST_COVERED = 40
 
 
+def need_few_nodes(arities, tree):
+    """Refuses a tree with more nodes than may be covered."""
+    amount = nodes(arities, tree)
+    if amount > MOST_COVERED:
+        raise TooMany(amount, MOST_COVERED)
+
+
 def need_small_tree(machine, tree, form):
     """Refuses what is no machine, no tree, no form, or too great a tree."""
     need_machine(machine)
     need_tree(machine[0], tree)
     if not is_form(machine[1], form):
         raise NoForm("no form of the machine")
-    amount = nodes(machine[0], tree)
-    if amount > MOST_COVERED:
-        raise TooMany(amount, MOST_COVERED)
+    need_few_nodes(machine[0], tree)
 
 
 def parts_of(node, arguments):

@@ -1,6 +1,6 @@
 """What a machine is."""
 
-from codepick.errors import NoMachine
+from codepick.errors import NoMachine, NoNumber
 from codepick.kinds import is_between
 
 MOST_OPERATORS = 6
@@ -79,3 +79,19 @@ def need_machine(machine):
     """Refuses what is no machine."""
     if not is_machine(machine):
         raise NoMachine("no machine")
+
+
+def amount_of_rows(machine):
+    """How many instructions and conversions there are together: they are numbered one behind the other."""
+    return len(machine[2]) + len(machine[3])
+
+
+def is_number(machine, thing):
+    """Whether thing is the number of an instruction or a conversion."""
+    return is_between(thing, 0, amount_of_rows(machine) - 1)
+
+
+def need_number(machine, number):
+    """Refuses what is no number of an instruction or a conversion."""
+    if not is_number(machine, number):
+        raise NoNumber("no number of an instruction or a conversion")

@@ -75,7 +75,11 @@ def row_of_node(rules, operator, rows):
 
 def rows_of_nodes(machine, tree):
     """The least prices of each written node: one row is enough, however often its part stands in the tree."""
-    rules = Rules(machine)
+    return rows_by(Rules(machine), tree)
+
+
+def rows_by(rules, tree):
+    """The least prices of each written node by these rules."""
     rows = []
     for node in tree:
         rows.append(row_of_node(rules, node[0], [rows[part] for part in node[1:]]))

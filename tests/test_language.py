@@ -14,7 +14,7 @@ BUILTINS = set(
     "len range enumerate zip min max sum abs sorted reversed int str bool bytes list tuple dict set frozenset isinstance"
     " ord chr repr any all divmod Exception ValueError TypeError KeyError IndexError LookupError ZeroDivisionError"
     " ArithmeticError OverflowError RuntimeError NotImplementedError AttributeError StopIteration NotImplemented iter"
-    " next".split()
+    " next super".split()
 )
 BARRED_NAMES = set(
     "register mro elements open input law version_info with_traceback add_note attrgetter breakpoint builtins compile"
@@ -26,6 +26,15 @@ BARRED_WORDS = (
     "|NamedTuple|TypedDict|TYPE_CHECKING|abstractmethod"
 )
 STATEMENTS = (ast.ImportFrom, ast.FunctionDef, ast.ClassDef, ast.Assign)
+# Those double-underscore methods that the package has.
+DOUBLE = {"__init__", "__eq__", "__repr__", "__len__", "__getitem__", "__iter__"}
+NOT_ATTRIBUTES = set(
+    "items keys values pop update append clear extend insert remove reverse setdefault sort args encode decode hex"
+    " fromhex format format_map mro".split()
+)
+BUILTIN_METHODS = {
+    name for kind in (str, int, bytes, list, tuple, dict, set) for name in dir(kind) if not name.startswith("_")
+}
 
 
 def files():
@@ -68,6 +77,30 @@ def bound(tree):
         elif isinstance(node, ast.Name) and not isinstance(node.ctx, ast.Load):
             found.append(node.id)
     return found
+
+
+def methods(tree):
+    """The methods of a file's classes."""
+    rows = [node.body for node in tree.body if isinstance(node, ast.ClassDef)]
+    return [node for body in rows for node in body if isinstance(node, ast.FunctionDef)]
+
+
+def assigned_attributes(tree):
+    """The names of the attributes that a file assigns."""
+    return {
+        node.attr for node in ast.walk(tree) if isinstance(node, ast.Attribute) and isinstance(node.ctx, ast.Store)
+    }
+
+
+def class_values(tree):
+    """The names that classes of a file assign in their bodies."""
+    rows = [node for node in ast.walk(tree) if isinstance(node, ast.ClassDef)]
+    return {target.id for row in rows for node in row.body if isinstance(node, ast.Assign) for target in node.targets}
+
+
+def is_call(node, names):
+    """Whether a node of the syntax is a call of one of these builtins."""
+    return isinstance(node, ast.Call) and isinstance(node.func, ast.Name) and node.func.id in names
 
 
 class Language(unittest.TestCase):
@@ -132,16 +165,66 @@ class Language(unittest.TestCase):
             inner = [what for what in bound(tree) if what not in defined(tree)]
             for what in inner:
                 self.assertNotIn(what, outer, name)
-            for what in set(bound(tree)) - {"__init__"}:
+            for what in set(bound(tree)) - DOUBLE:
                 self.assertFalse(what.startswith("_"), what)
                 self.assertNotIn(what, BARRED_NAMES, name)
                 self.assertFalse(hasattr(builtins, what), what)
 
     def test_builtins(self):
         for name, text, tree in files():
+            decorators = [row for node in ast.walk(tree) for row in getattr(node, "decorator_list", [])]
+            for decorator in decorators:
+                self.assertEqual(ast.unparse(decorator), "property", name)
             for node in ast.walk(tree):
-                if isinstance(node, ast.Name) and hasattr(builtins, node.id):
+                if isinstance(node, ast.Name) and hasattr(builtins, node.id) and node not in decorators:
                     self.assertIn(node.id, BUILTINS, name)
+
+    def test_double_underscore_methods_stand_in_classes(self):
+        for name, text, tree in files():
+            functions = [node for node in ast.walk(tree) if isinstance(node, ast.FunctionDef)]
+            for node in functions:
+                if node.name.startswith("_"):
+                    self.assertIn(node, methods(tree), name)
+
+    def test_methods_and_attributes(self):
+        """No name is a method here and an attribute there, and what is read is assigned somewhere."""
+        trees = [tree for name, text, tree in files()]
+        own = {method.name for tree in trees for method in methods(tree)}
+        stored = set().union(*[assigned_attributes(tree) for tree in trees])
+        values = set().union(*[class_values(tree) for tree in trees])
+        self.assertFalse(own & stored)
+        self.assertFalse(values & (own | stored))
+        self.assertFalse(stored & NOT_ATTRIBUTES)
+        self.assertFalse((own | stored | values) & BUILTIN_METHODS)
+        for tree in trees:
+            for node in ast.walk(tree):
+                if isinstance(node, ast.Attribute):
+                    known = own | stored | values | BUILTIN_METHODS
+                    self.assertTrue(node.attr in known or node.attr == "__init__", node.attr)
+
+    def test_beside_operators(self):
+        """A class has an operator and a length: lists are passed where generators could be, and nothing is sorted."""
+        for name, text, tree in files():
+            for node in ast.walk(tree):
+                self.assertNotIsInstance(node, ast.GeneratorExp, name)
+                if is_call(node, ("reversed",)):
+                    self.assertTrue(is_call(node.args[0], ("list", "tuple", "sorted", "range")), name)
+                if isinstance(node, ast.Attribute):
+                    self.assertNotEqual(node.attr, "sort", name)
+
+    def test_is(self):
+        for name, text, tree in files():
+            for node in ast.walk(tree):
+                if isinstance(node, ast.Compare) and isinstance(node.ops[0], (ast.Is, ast.IsNot)):
+                    self.assertIsInstance(node.comparators[0], ast.Constant, name)
+                    self.assertIn(node.comparators[0].value, (None, True, False), name)
+
+    def test_caught_errors_are_own_ones(self):
+        own = [what for name, text, tree in files() if name == "errors.py" for what in defined(tree)]
+        for name, text, tree in files():
+            for node in ast.walk(tree):
+                if isinstance(node, ast.ExceptHandler):
+                    self.assertIn(node.type.id, own, name)
 
 
 if __name__ == "__main__":
