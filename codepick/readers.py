@@ -161,10 +161,10 @@ class Reader:
         """How many deeds can be taken back."""
         return len(self.done)
 
-    def __getitem__(self, place):
-        if not is_between(place, 0, len(self.rows) - 1):
+    def __getitem__(self, at):
+        if not is_between(at, 0, len(self.rows) - 1):
             raise NoPlace("no place of a part")
-        return self.rows[place]
+        return self.rows[at]
 
     def __iter__(self):
         raise TypeError("readers are not walked over")

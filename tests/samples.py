@@ -3,7 +3,10 @@
 import copy
 import random
 
-from codepick.errors import NoTree, TooMany
+from codepick.chooser import states
+from codepick.errors import Endless, NoTree, TooMany
+from codepick.readers import Keeping, Reader
+from codepick.sessions import Session
 
 NEAR = ((0, 2), 2, ((0, 0, (), 1), (1, 0, (), 0), (0, 1, (1, 1), 0), (1, 1, (0, 0), 1), (0, 1, (0, 0), 0)), ())
 NEAR_TREE = ((0,), (1, 0, 0), (1, 1, 0))
@@ -35,7 +38,7 @@ def wrong_values():
         (True,), (False,), (-1,), ("",), ([],), ({},), ((),), (((0,),),), ((True,),), ((None,),),
         (7,) * 4000, [0] * 4000, {number: None for number in range(1900)},
         deep(tuple, 20), deep(list, 20), [True, [None, {"a": (1, "b")}]],
-        NoTree(), NoTree("a message"), TooMany(2, 1), (NoTree(),),
+        NoTree(), NoTree("a message"), TooMany(2, 1), (NoTree(),), Reader(NEAR), (Keeping(NEAR),), [Session()], Session(),
     ]
 
 
@@ -187,6 +190,42 @@ def counters(caps, moves, more=()):
                 rows.append((form, operator, (form,), int(form == move)))
     steps = [(0, form, cap) for form, cap in enumerate(caps, start=1) if cap is not None]
     return (0,) + (1,) * len(moves) + tuple(more), forms, tuple(rows), tuple(steps)
+
+
+def numbers_of(machine):
+    """The numbers of the instructions and conversions."""
+    return range(len(machine[2]) + len(machine[3]))
+
+
+def reduced(machine, numbers):
+    """The machine without some instructions and conversions."""
+    first = len(machine[2])
+    return machine[:2] + (
+        tuple([row for at, row in enumerate(machine[2]) if at not in numbers]),
+        tuple([row for at, row in enumerate(machine[3], start=first) if at not in numbers]),
+    )
+
+
+def repriced(machine, change):
+    """The machine with change(number, price) in place of each price."""
+    first = len(machine[2])
+    return machine[:2] + (
+        tuple([row[:-1] + (change(at, row[-1]),) for at, row in enumerate(machine[2])]),
+        tuple([row[:-1] + (change(at, row[-1]),) for at, row in enumerate(machine[3], start=first)]),
+    )
+
+
+def priced(machine, number, price):
+    """The machine with another price of one instruction or conversion."""
+    return repriced(machine, lambda at, own: price if at == number else own)
+
+
+def is_small(machine, most=40):
+    """Whether the machine's states can be told and are at most so many."""
+    try:
+        return len(states(machine)) <= most
+    except (Endless, TooMany):
+        return False
 
 
 def chance(seed):

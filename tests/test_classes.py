@@ -8,8 +8,8 @@ from codepick.errors import Endless, NoMachine, NoStates, TooMany
 from codepick.prices import prices, relative
 from codepick.trees import nodes
 from brute import Rows, all_trees, state_of, written
-from samples import (NEAR, NEAR_TREE, SMALL, asked_twice, chance, counters, doubled, likeness, machine_for, part_at,
-                     places, replaced, some_machine, spoiled, wrong_values)
+from samples import (NEAR, NEAR_TREE, SMALL, asked_twice, chance, counters, doubled, is_small, likeness, machine_for,
+                     part_at, places, replaced, some_machine, spoiled, wrong_values)
 
 LEAF = ((0,),)
 GROWING = counters((None,), (1, (1,)))
@@ -21,23 +21,30 @@ UNLIKE = (
     (0, 0, 1), 2, ((0, 0, (), 0), (1, 0, (), 1), (0, 1, (), 2), (1, 1, (), 0), (0, 2, (1,), 0)), (),
 )
 
-
-def is_small(machine):
-    try:
-        return len(states(machine)) <= 60
-    except (Endless, TooMany):
-        return False
+# Operator 3 leads to the goal at once, operator 2 only with operator 3 behind it, and so over a greater rest.
+NEARER = (
+    (0, 0, 1, 1), 3,
+    ((1, 1, (), 3), (2, 2, (2,), 1), (0, 3, (2,), 3), (2, 0, (), 3), (1, 1, (), 1), (2, 0, (), 1), (2, 1, (), 1)),
+    ((0, 2, 1), (1, 2, 3)),
+)
+# Rests of these states differ by as much in many contexts, if it is left out how the base grows on the way.
+GROWTHS = (
+    (0, 0, 1, 1), 3,
+    ((1, 0, (), 3), (0, 0, (), 3), (2, 0, (), 1), (1, 3, (1,), 0), (2, 3, (1,), 2), (2, 1, (), 0), (2, 1, (), 2),
+     (0, 2, (0,), 1), (1, 2, (2,), 0)),
+    ((1, 0, 2), (1, 0, 1)),
+)
 
 
 def small_machines(amount):
-    found = [NEAR, SMALL, LEAVES, UNLIKE]
+    found = [NEAR, SMALL, LEAVES, UNLIKE, NEARER, GROWTHS]
     for seed in range(amount):
         dice = chance(seed)
         arities = ((0, 1), (0, 0, 1), (0, 0, 2), (0, 1, 2), (0, 2))[seed % 5]
         machine = machine_for(dice, arities, 1 + seed // 5 % 4, dice.randint(3, 10), dice.randint(0, 4), 3)
         if seed % 6 == 0:
             machine = some_machine(dice)
-        if is_small(machine) and len(states(machine)) <= 12:
+        if is_small(machine, 12):
             found.append(machine)
     return found
 
@@ -129,6 +136,8 @@ class Examples(unittest.TestCase):
         step = ((3, 0, ()),)
         self.assertEqual(parted(LEAVES, (None, 0, None), (None, None, 0)), ("one", step))
         self.assertEqual(parted(LEAVES, (None, None, None), (0, None, None))[0], "one")
+        for contexts in ((), ((), ()), (step, step), ((), step)):
+            self.assertIs(shows_parted(LEAVES, (0, None, None), (None, None, None), ("one", *contexts)), False)
         # The empty context parts by itself.
         self.assertIs(shows_parted(LEAVES, (0, None, None), (None, 0, None), ("one", ())), True)
         self.assertIs(shows_parted(LEAVES, (None, 0, None), (None, None, 0), ("one", ())), False)
@@ -154,6 +163,14 @@ class Examples(unittest.TestCase):
 
     def test_differences(self):
         self.assertEqual(classes(UNLIKE), (((0, 1),), ((0, None),), ((2, 0),), ((None, None),)))
+
+    def test_least_rests(self):
+        self.assertEqual(classes(NEARER), (((0, None, 1),), ((None, 0, 0), (None, None, 0))))
+        self.assertIsNone(parted(NEARER, (None, 0, 0), (None, None, 0)))
+        for one, other in itertools.permutations(states(GROWTHS), 2):
+            answer = parted(GROWTHS, one, other)
+            self.assertIs(shows_parted(GROWTHS, one, other, answer), True)
+            self.assertIs(answer is None or parts(GROWTHS, one, other, answer), True)
 
     def test_different_states_alike(self):
         """Form 1 is cheap or dear, but conversions make it as good as form 0."""

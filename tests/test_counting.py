@@ -5,19 +5,11 @@ from codepick.chooser import states
 from codepick.counting import by_state, extremes, total
 from codepick.errors import Endless, NoMachine, NoNodes, TooMany
 from brute import Rows, all_trees, rows_by_size, state_of
-from samples import (NEAR, SMALL, WIDE, asked_twice, chance, counters, machine_for, some_machine, spoiled,
+from samples import (NEAR, SMALL, WIDE, asked_twice, chance, counters, is_small, machine_for, some_machine, spoiled,
                      wrong_values)
 
 GROWING = counters((None,), (1, (1,)))
 CROWD = counters((None, None), (1, 2))
-
-
-def is_small(machine):
-    """Whether the functions answer for the machine."""
-    try:
-        return len(states(machine)) <= 40
-    except (Endless, TooMany):
-        return False
 
 
 def small_machines(amount):

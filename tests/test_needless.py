@@ -7,8 +7,8 @@ from codepick.needless import fewest, needing, needless, never_used, shows_needi
 from codepick.prices import prices
 from codepick.trees import is_tree, nodes
 from brute import Covers, Rows, all_trees, all_ways, rows_by_size, state_of, written
-from samples import (NEAR, NEAR_TREE, SMALL, WIDE, asked_twice, chain, chance, counters, deep, doubled, machine_for,
-                     some_machine, spoiled, wrong_values)
+from samples import (NEAR, NEAR_TREE, SMALL, WIDE, asked_twice, chain, chance, counters, deep, doubled, is_small,
+                     machine_for, numbers_of, priced, reduced, some_machine, spoiled, wrong_values)
 
 LEAF = ((0,),)
 # Each instruction and each conversion stands there twice.
@@ -21,27 +21,6 @@ TRIPLE = ((0, 1), 2, ((1, 0, (), 1), (0, 1, (1,), 1), (0, 1, (1,), 1)), ())
 LATE = counters((19,), (1, (1,)))
 GROWING = counters((None,), (1, (1,)))
 CROWD = counters((None, None), (1, 2))
-
-
-def reduced(machine, numbers):
-    """The machine without some instructions and conversions."""
-    first = len(machine[2])
-    return machine[:2] + (
-        tuple([row for number, row in enumerate(machine[2]) if number not in numbers]),
-        tuple([row for number, row in enumerate(machine[3], start=first) if number not in numbers]),
-    )
-
-
-def numbers_of(machine):
-    return range(len(machine[2]) + len(machine[3]))
-
-
-def is_small(machine):
-    """Whether the functions answer for the machine."""
-    try:
-        return len(states(machine)) <= 40
-    except (Endless, TooMany):
-        return False
 
 
 def small_machines(amount, instructions=7, conversions=3):
@@ -366,16 +345,10 @@ class Many(unittest.TestCase):
         raised = 0
         for machine in small_machines(120, 6):
             for number in needless(machine):
-                at = number - len(machine[2])
+                own = (machine[2] + machine[3])[number][-1]
                 for price in (1, 2, 20):
-                    rows, steps = list(machine[2]), list(machine[3])
-                    kind = rows if at < 0 else steps
-                    at_row = number if at < 0 else at
-                    if kind[at_row][-1] >= price:
-                        continue
-                    kind[at_row] = kind[at_row][:-1] + (price,)
-                    dearer = machine[:2] + (tuple(rows), tuple(steps))
-                    if is_small(dearer):
+                    dearer = priced(machine, number, max(own, price))
+                    if price > own and is_small(dearer):
                         self.assertIn(number, needless(dearer))
                         raised += 1
         self.assertGreater(raised, 200)

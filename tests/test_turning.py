@@ -6,8 +6,8 @@ from codepick.prices import prices
 from codepick.trees import nodes
 from codepick.turning import given_up, turns, uses
 from brute import Covers, written
-from samples import (NEAR, NEAR_TREE, SMALL, WIDE, asked_twice, chain, chance, doubled, machine_for, some_machine,
-                     some_tree, spoiled, unshared, wrong_values)
+from samples import (NEAR, NEAR_TREE, SMALL, WIDE, asked_twice, chain, chance, doubled, machine_for, numbers_of, priced,
+                     some_machine, some_tree, spoiled, unshared, wrong_values)
 
 LEAF = ((0,),)
 # Either a leaf for itself, or operator 1 three times at 0 over a dear one.
@@ -15,19 +15,6 @@ SLOPES = ((0, 2), 2, ((0, 0, (), 1), (1, 0, (), 5), (0, 1, (0, 0), 0), (0, 1, (1
 # Two equal instructions and two equal conversions; the goal is come to by a conversion only.
 TWICE = ((0,), 2, ((1, 0, (), 2), (1, 0, (), 2)), ((1, 0, 3), (1, 0, 3)))
 ROUND = ((0, 1), 3, ((1, 0, (), 1), (2, 1, (2,), 0)), ((0, 1, 0), (1, 2, 0), (2, 0, 0), (1, 0, 0), (1, 0, 20)))
-
-
-def numbers_of(machine):
-    return range(len(machine[2]) + len(machine[3]))
-
-
-def priced(machine, number, price):
-    """The machine with another price of one instruction or conversion."""
-    first = len(machine[2])
-    return machine[:2] + (
-        tuple([row[:-1] + (price,) if at == number else row for at, row in enumerate(machine[2])]),
-        tuple([row[:-1] + (price,) if at == number else row for at, row in enumerate(machine[3], start=first)]),
-    )
 
 
 def lines_of(machine, nested, number):

@@ -19,7 +19,7 @@ from codepick.readers import Keeping
 from codepick.texts import machine_text, read_machine, read_tree, tree_text
 from codepick.trees import nodes, spelled, trimmed, unspelled
 from codepick.turning import given_up, turns, uses
-from samples import NEAR, chance, machine_for, some_tree, varied
+from samples import NEAR, chance, is_small, machine_for, numbers_of, reduced, repriced, some_tree, varied
 
 SESSION = """
 >>> from codepick.prices import prices
@@ -43,13 +43,6 @@ README = os.path.join(os.path.dirname(os.path.dirname(os.path.abspath(__file__))
 ARITIES = (0, 0, 1, 2)
 
 
-def is_small(machine, most=40):
-    try:
-        return len(states(machine)) <= most
-    except (Endless, TooMany):
-        return False
-
-
 def machines(amount, most=3):
     """Machines with at most 40 states, with 1 to 4 forms."""
     found = [NEAR]
@@ -61,30 +54,8 @@ def machines(amount, most=3):
     return found
 
 
-def numbers_of(machine):
-    return range(len(machine[2]) + len(machine[3]))
-
-
 def price_of_number(machine, number):
     return (machine[2] + machine[3])[number][-1]
-
-
-def priced(machine, change):
-    """The machine with each price replaced by change(number, price)."""
-    first = len(machine[2])
-    return machine[:2] + (
-        tuple([row[:-1] + (change(at, row[-1]),) for at, row in enumerate(machine[2])]),
-        tuple([row[:-1] + (change(at, row[-1]),) for at, row in enumerate(machine[3], start=first)]),
-    )
-
-
-def reduced(machine, numbers):
-    """The machine without some instructions and conversions."""
-    first = len(machine[2])
-    return machine[:2] + (
-        tuple([row for at, row in enumerate(machine[2]) if at not in numbers]),
-        tuple([row for at, row in enumerate(machine[3], start=first) if at not in numbers]),
-    )
 
 
 def is_at_least(price, other):
@@ -148,7 +119,7 @@ class Holds(unittest.TestCase):
     def test_all_prices_times_an_integer(self):
         for machine in machines(60, 4):
             for times in (1, 2, 5):
-                self.assertEqual(len(states(priced(machine, lambda at, price: price * times))), len(states(machine)))
+                self.assertEqual(len(states(repriced(machine, lambda at, price: price * times))), len(states(machine)))
 
     def test_gaps_of_three(self):
         seen = 0
@@ -156,8 +127,8 @@ class Holds(unittest.TestCase):
             dice = chance(seed)
             one = machine_for(dice, (0, 0, 2), 1 + seed % 2, 8, seed % 2 * 2, 3)
             # With other prices alone, goal prices are in the same places.
-            other = priced(one, lambda at, price: dice.randint(0, 4))
-            third = priced(one, lambda at, price: dice.randint(0, 4))
+            other = repriced(one, lambda at, price: dice.randint(0, 4))
+            third = repriced(one, lambda at, price: dice.randint(0, 4))
             try:
                 whole, first, second = gap(one, third), gap(one, other), gap(other, third)
             except (Endless, TooMany):
@@ -184,7 +155,7 @@ class Holds(unittest.TestCase):
         for machine in machines(60):
             for number in needless(machine):
                 for more in (1, 3, 15):
-                    dearer = priced(machine, lambda at, price: price + more * (at == number))
+                    dearer = repriced(machine, lambda at, price: price + more * (at == number))
                     if is_small(dearer):
                         self.assertIn(number, needless(dearer))
                         seen += 1
