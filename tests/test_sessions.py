@@ -48,6 +48,7 @@ class Lines(unittest.TestCase):
 
     def test_first_machine(self):
         session = Session()
+        self.assertEqual(told(session), told(session_of(FIRST)))
         self.assertRaises(NothingRead, session.say, "prices")
         self.says(
             session, ("states", "1"), ("finite", "finite 0"), ("needless", "none"), ("feed 0", "ok"), ("prices", "1"),

@@ -5,13 +5,11 @@ from codepick.errors import NoMachine, NoNumber, NoPrice, NoTree, TooMany
 from codepick.prices import prices
 from codepick.trees import nodes
 from codepick.turning import given_up, turns, uses
-from brute import Covers, written
+from brute import Covers
 from samples import (NEAR, NEAR_TREE, SMALL, WIDE, asked_twice, chain, chance, doubled, machine_for, numbers_of, priced,
                      some_machine, some_tree, spoiled, unshared, wrong_values)
 
 LEAF = ((0,),)
-# Either a leaf for itself, or operator 1 three times at 0 over a dear one.
-SLOPES = ((0, 2), 2, ((0, 0, (), 1), (1, 0, (), 5), (0, 1, (0, 0), 0), (0, 1, (1, 0), 0)), ())
 # Two equal instructions and two equal conversions; the goal is come to by a conversion only.
 TWICE = ((0,), 2, ((1, 0, (), 2), (1, 0, (), 2)), ((1, 0, 3), (1, 0, 3)))
 ROUND = ((0, 1), 3, ((1, 0, (), 1), (2, 1, (2,), 0)), ((0, 1, 0), (1, 2, 0), (2, 0, 0), (1, 0, 0), (1, 0, 20)))
