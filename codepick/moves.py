@@ -23,7 +23,8 @@ class Moves:
         for place in range(len(closure.found)):
             row = []
             for operator, argument, siblings in self.steps:
-                row.append(closure.table[operator][(*siblings[:argument], place, *siblings[argument:])])
+                places = (*siblings[:argument], place, *siblings[argument:])
+                row.append(closure.table[operator][places])
             self.rows.append(row)
         self.rests, self.firsts = least_rests(self.goals, self.rows)
 

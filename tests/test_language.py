@@ -103,6 +103,17 @@ def is_call(node, names):
     return isinstance(node, ast.Call) and isinstance(node.func, ast.Name) and node.func.id in names
 
 
+def is_star(node):
+    """Whether a node of the syntax is a star, or a dict literal with a double one."""
+    return isinstance(node, ast.Starred) or isinstance(node, ast.Dict) and None in node.keys
+
+
+def stars_in_indexes(tree):
+    """The lines of the stars that stand in the brackets of subscripts, however deep."""
+    indexes = [node.slice for node in ast.walk(tree) if isinstance(node, ast.Subscript)]
+    return sorted({node.lineno for index in indexes for node in ast.walk(index) if is_star(node)})
+
+
 class Language(unittest.TestCase):
     def test_files(self):
         for name in os.listdir(FOLDER):
@@ -211,6 +222,27 @@ class Language(unittest.TestCase):
                     self.assertTrue(is_call(node.args[0], ("list", "tuple", "sorted", "range")), name)
                 if isinstance(node, ast.Attribute):
                     self.assertNotEqual(node.attr, "sort", name)
+
+    def test_no_star_in_an_index(self):
+        for name, text, tree in files():
+            self.assertEqual(stars_in_indexes(tree), [], name)
+
+    def test_stars_in_indexes_are_found(self):
+        """Where there is none in the package, a search that finds nothing would not be noticed."""
+        barred = (
+            "k = d[(*a, b)]",
+            "k = d[*a, b]",
+            "d[(b, (*a,))] = k",
+            "k = d[f([*a])]",
+            "k = d[f(*a)]",
+            "del d[(*a,)]",
+            "d[0][(*a,)] += 1",
+            "k = d[len({**a})]",
+        )
+        for row in barred:
+            self.assertEqual(stars_in_indexes(ast.parse(f"k = 0\n{row}\n")), [2], row)
+        for row in ("k = (*a[:b], d[k])", "k = [*d[b * 2]]", "k = {**d[b]}", "k = f(*a)", "b, *a = d[k ** 2]"):
+            self.assertEqual(stars_in_indexes(ast.parse(row)), [], row)
 
     def test_is(self):
         for name, text, tree in files():
